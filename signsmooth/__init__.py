@@ -1,0 +1,1 @@
+"""Signsmooth: tables that never add a change of sign."""
