@@ -42,22 +42,29 @@ def fraction(top, bottom=1):
     return in_lowest_terms(top, bottom)
 
 
+# What the bottoms share is all that a sum can be divided by: so no divisor of the long products is ever looked for.
 def sum_of(one, other):
-    return in_lowest_terms(one[0] * other[1] + other[0] * one[1], one[1] * other[1])
+    shared = common_divisor(one[1], other[1])
+    top = one[0] * (other[1] // shared) + other[0] * (one[1] // shared)
+    divisor = common_divisor(top, shared)
+    return (top // divisor, one[1] // shared * (other[1] // divisor))
 
 
 def rest_of(one, other):
-    return in_lowest_terms(one[0] * other[1] - other[0] * one[1], one[1] * other[1])
+    return sum_of(one, (-other[0], other[1]))
 
 
+# Both are in lowest terms, so only the one's top and the other's bottom can share a divisor.
 def product_of(one, other):
-    return in_lowest_terms(one[0] * other[0], one[1] * other[1])
+    first = common_divisor(one[0], other[1])
+    second = common_divisor(other[0], one[1])
+    return (one[0] // first * (other[0] // second), one[1] // second * (other[1] // first))
 
 
 def quotient_of(one, other):
     if other[0] == 0:
         raise NoFraction("nothing is divided by 0")
-    return in_lowest_terms(one[0] * other[1], one[1] * other[0])
+    return product_of(one, in_lowest_terms(other[1], other[0]))
 
 
 # Bottoms are above 0, so multiplying by them keeps the order.

@@ -38,11 +38,23 @@ def look_table(thing):
         raise NoTable("no table: one to seven rows, all of as many fractions, one to seven")
 
 
-def look_choices(table, rows, columns):
-    if not is_choice(rows, len(table)):
+def look_choices(rows, columns, many_rows, many_columns):
+    if not is_choice(rows, many_rows):
         raise NoChoice("no choice of the rows")
-    if not is_choice(columns, len(table[0])):
+    if not is_choice(columns, many_columns):
         raise NoChoice("no choice of the columns")
+
+
+# As tuples, in the order of lists: each turn keeps the order that the turn ahead of it made.
+def choices_of(many, size):
+    found = [()]
+    for turn in range(size):
+        longer = []
+        for choice in found:
+            least = choice[-1] + 1 if turn > 0 else 0
+            longer.extend([choice + (k,) for k in range(least, many)])
+        found = longer
+    return found
 
 
 def picked(things, places):
@@ -51,12 +63,20 @@ def picked(things, places):
 
 def part_of(table, rows, columns):
     look_table(table)
-    look_choices(table, rows, columns)
+    look_choices(rows, columns, len(table), len(table[0]))
+    return chosen(table, rows, columns)
+
+
+def chosen(table, rows, columns):
     return [picked(table[i], columns) for i in rows]
 
 
 def turned(table):
     look_table(table)
+    return columns_of(table)
+
+
+def columns_of(table):
     return [column_of(table, j) for j in range(len(table[0]))]
 
 
