@@ -1,11 +1,8 @@
 """The first determinant below 0, and tables taken apart into ladders."""
 
 from signsmooth.determinants import first_under
-from signsmooth.fracs import product_of, quotient_of, rest_of
+from signsmooth.fracs import NOUGHT, ONE, product_of, quotient_of, rest_of
 from signsmooth.tables import columns_of, look_table
-
-NOUGHT = (0, 1)
-ONE = (1, 1)
 
 
 def first_below(table):

@@ -144,19 +144,26 @@ def is_strict(table):
 # Scales are above 0, so determinants of whole rows have the signs of the table's own.
 # The answer is the first, by fewest rows, then rows, then columns, of which the whole determinant is under the bound.
 def first_under(table, bound):
-    rows = whole_rows(table, [scale_of(row) for row in table])
+    found = all_determinants(whole_rows(table, [scale_of(row) for row in table]))
+    for choices in found:
+        if found[choices] < bound:
+            return (list(choices[0]), list(choices[1]))
+    return None
+
+
+# By rows and columns, fewest first; each along its last row from those of one row less, for which no rows count as 1.
+def all_determinants(rows):
+    found = {}
     known = {(): {(): 1}}
     for size in range(1, min(len(rows), len(rows[0])) + 1):
         fresh = {}
         column_choices = choices_of(len(rows[0]), size)
-        for chosen_rows in choices_of(len(rows), size):
-            found = one_row_more(known[chosen_rows[:-1]], rows[chosen_rows[-1]], column_choices)
+        for some in choices_of(len(rows), size):
+            fresh[some] = one_row_more(known[some[:-1]], rows[some[-1]], column_choices)
             for columns in column_choices:
-                if found[columns] < bound:
-                    return (list(chosen_rows), list(columns))
-            fresh[chosen_rows] = found
+                found[(some, columns)] = fresh[some][columns]
         known = fresh
-    return None
+    return found
 
 
 def one_row_more(known, row, column_choices):

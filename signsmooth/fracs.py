@@ -2,10 +2,17 @@
 
 from signsmooth.errors import NoFraction
 
+NOUGHT = (0, 1)
+ONE = (1, 1)
+
 
 # Python counts True and False among its ints; here they are no numbers.
 def is_whole(thing):
     return isinstance(thing, int) and not isinstance(thing, bool)
+
+
+def is_between(thing, least, most):
+    return is_whole(thing) and least <= thing <= most
 
 
 def is_fraction(thing):
@@ -24,6 +31,13 @@ def common_divisor(one, other):
         greater = lesser
         lesser = rest
     return greater
+
+
+def shared_divisor(number, others):
+    found = number
+    for other in others:
+        found = common_divisor(other, found)
+    return found
 
 
 # The sign goes to the top, so that each number is written in one way alone and `==` tells equal ones.

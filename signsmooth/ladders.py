@@ -1,15 +1,11 @@
 """Ladders: tracks with rungs between neighbours, the ways over their steps, and the tables that the ways make."""
 
 from signsmooth.errors import NoChoice, NoLadder, TooMany
-from signsmooth.fracs import common_divisor, fraction, is_fraction, is_whole, product_of
+from signsmooth.fracs import ONE, common_divisor, fraction, is_between, is_fraction, product_of, shared_divisor
 from signsmooth.tables import MOST, choices_of, columns_of
 
 MOST_STEPS = 400
 MOST_LISTED = 3000
-
-
-def is_between(thing, least, most):
-    return is_whole(thing) and least <= thing <= most
 
 
 def is_weight(thing):
@@ -86,13 +82,6 @@ def added_sums(one, other):
     return ([top // divisor for top in tops], other_factor * (other[1] // divisor))
 
 
-def shared_divisor(number, others):
-    found = number
-    for other in others:
-        found = common_divisor(other, found)
-    return found
-
-
 # Ways that go side by side are on places: a rising tuple of tracks, as no way can pass another one without meeting it.
 # The answer is in the order of tuples.
 def next_places(step, places):
@@ -159,7 +148,7 @@ def ways(ladder, i, j):
 
 def weight_of(ladder, way):
     look_ladder(ladder)
-    weight = (1, 1)
+    weight = ONE
     for k, step in enumerate(ladder[3]):
         if is_multiplied(step, way[k], way[k + 1]):
             weight = product_of(weight, step[2])

@@ -1,6 +1,7 @@
 """Tables and ladders for tests. Chance is seeded, so each run sees the same ones."""
 
 from fractions import Fraction
+from itertools import product
 from math import comb
 from time import perf_counter
 
@@ -53,6 +54,33 @@ def one_alone_below(many):
     # The determinant of all is 1, and so is that without the last row and column.
     rows[-1][-1] -= Fraction(1001, 1000)
     return reckon.table(rows)
+
+
+def within(table, rows, columns, i, j):
+    """A table of noughts but for the one handed in, from row i and column j on: its determinants, and 0, are all."""
+    found = [[(0, 1)] * columns for row in range(rows)]
+    for k, row in enumerate(table):
+        found[i + k][j:j + len(row)] = row
+    return found
+
+
+def weighed(chance, table, figures):
+    """Each row and each column is multiplied by a number above 0 of so many figures: all signs stay."""
+    def one():
+        return Fraction(chance.randrange(10 ** (figures - 1), 10 ** figures),
+                        chance.randrange(10 ** (figures - 1), 10 ** figures))
+    columns = [one() for number in table[0]]
+    return [[reckon.pair(reckon.number(entry) * factor * other) for entry, other in zip(row, columns)]
+            for row, factor in [(row, one()) for row in table]]
+
+
+def rows_of(length, values):
+    """All rows of so many of these whole numbers."""
+    return [[(value, 1) for value in values_of_row] for values_of_row in product(values, repeat=length)]
+
+
+def chance_row(chance, length, top=5, bottom=3):
+    return chance_table(chance, 1, length, top, bottom)[0]
 
 
 def ladder_of_ways(many):

@@ -131,3 +131,69 @@ def meet(one, other):
 def families(ladder, rows, columns):
     each = [ways(ladder, i, j) for i, j in zip(rows, columns)]
     return sorted(list(some) for some in product(*each) if not any(meet(a, b) for a, b in combinations(some, 2)))
+
+
+def signs(row):
+    return [(value > 0) - (value < 0) for value in (number(entry) for entry in row)]
+
+
+def changes(some_signs):
+    """How often one of two neighbours is above and one below 0, when all noughts are left out."""
+    left = [sign for sign in some_signs if sign]
+    return sum(one != other for one, other in zip(left, left[1:]))
+
+
+def least_changes(row):
+    return changes(signs(row))
+
+
+def most_changes(row):
+    """By all ways to take each nought for a number above or below 0."""
+    return max(changes(taken) for taken in product(*[(sign,) if sign else (1, -1) for sign in signs(row)]))
+
+
+def first_sign(row):
+    return ([sign for sign in signs(row) if sign] + [0])[0]
+
+
+def behind(a_table, row):
+    return [pair(sum(number(one) * number(other) for one, other in zip(some, row, strict=True))) for some in a_table]
+
+
+def tells_against(a_table, row):
+    after = behind(a_table, row)
+    if least_changes(after) != least_changes(row):
+        return least_changes(after) > least_changes(row)
+    return any(entry[0] for entry in after) and first_sign(after) != first_sign(row)
+
+
+def gone_over(a_table, places, sign):
+    rows = [[number(entry) for entry in row] for row in a_table]
+    for j, b in places:
+        u = rows[j][b]
+        if u != 0:
+            for i in range(j):
+                for a in range(b):
+                    rows[i][a] += sign * rows[i][b] * rows[j][a] / u
+    return table(rows)
+
+
+def thinned(a_table):
+    rows, columns = len(a_table), len(a_table[0])
+    return gone_over(a_table, [(j, b) for j in range(rows - 1, -1, -1) for b in range(columns - 1, -1, -1)], -1)
+
+
+def thickened(a_table):
+    return gone_over(a_table, [(j, b) for j in range(len(a_table)) for b in range(len(a_table[0]))], 1)
+
+
+def is_staircase(marks):
+    """Of marks: each 0 has nothing but 0 to its left, or nothing but 0 above it."""
+    return all(mark == 1 or not any(marks[i][:j]) or not any(row[j] for row in marks[:i])
+               for i, row in enumerate(marks) for j, mark in enumerate(row))
+
+
+def staircases(rows, columns):
+    every = ([list(marks[i * columns:(i + 1) * columns]) for i in range(rows)]
+             for marks in product((0, 1), repeat=rows * columns))
+    return [marks for marks in every if is_staircase(marks)]

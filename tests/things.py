@@ -77,6 +77,32 @@ def no_choices(many):
     return found
 
 
+def no_rows():
+    """New things at each call: no rows, some of them only just."""
+    found = [
+        [], [(1, 1)] * 8, [(0, 1)] * 8, ((1, 1),), ((1, 1), (2, 1)), (1, 1), [[(1, 1)]], [[(1, 1), (2, 1)]],
+        [((1, 1),)], [[1, 1]], [(1, 1), [2, 1]], nested((1, 1), 9), "1", "1 2", 1, None, True,
+    ]
+    for wrong in (1, 0, None, True, False, "1", "", (), (1,), (1, 2, 3), (1, 0), (1, -1), (2, 2), (0, 2), (0, -1),
+                  (True, 1), (1, True), (False, 1), ("1", 1), (1, None), [], [1, 1]):
+        found += [[wrong], [wrong, (1, 1)], [(1, 1), (2, 1), wrong], [(0, 1)] * 6 + [wrong]]
+    return found + [thing for thing in any_things() if thing != [(1, 2)]]
+
+
+def no_staircases():
+    """New things at each call: no staircases, some of them only just."""
+    found = [
+        [], [[]], [[], []], [[0], []], [[], [1]], [[0]] * 8, [[1]] * 8, [[0] * 8], [[1] * 8], [[1] * 8] * 8,
+        [[1, 1], [1]], [[1], [1, 1]], [[0] * 7] * 6 + [[0] * 6], ([1],), [(1,)], ((1,),), [[1], (1,)], [1], [0, 1],
+        [[[1]]], [[1], 1], [[1], None], [[1], "1"], ["1"], ["01"], "1", nested(1, 9),
+        [[0, 1], [1, 0]], [[1, 1], [1, 0]], [[0, 0, 1], [0, 1, 0]], [[0, 1], [0, 0], [1, 0]], [[1, 1, 1], [1, 0, 1]],
+        [[1, 1, 1], [1, 1, 0], [1, 1, 1]], [[1] * 7] * 6 + [[1] * 6 + [0]],
+    ]
+    for wrong in (2, -1, 10 ** 39, True, False, None, "0", "1", "", (), [], [0], (0, 1), (1, 1)):
+        found += [[[wrong]], [[1, 1], [1, wrong]], [[wrong, 1], [1, 1]], [[0] * 7] * 6 + [[0] * 6 + [wrong]]]
+    return found + [thing for thing in any_things() if thing != [[1]]]
+
+
 def spoil(table):
     """Change each list of a table, and the table."""
     for row in table:
