@@ -2,6 +2,7 @@
 
 from signsmooth.determinants import first_under
 from signsmooth.fracs import NOUGHT, ONE, product_of, quotient_of, rest_of
+from signsmooth.ladders import turned_step
 from signsmooth.tables import columns_of, look_table
 
 
@@ -44,8 +45,10 @@ def steps_of(table):
     return ahead + corners + [turned_step(step) for step in reversed(behind)]
 
 
-def turned_step(step):
-    return ("down", step[1], step[2]) if step[0] == "up" else step
+# A step for each corner, and at most two for each place beside them. (Where a column is cleared a second time there was
+# nothing in it the first time.)
+def most_steps_apart(tracks):
+    return tracks + 2 * tracks * (tracks - 1)
 
 
 def clear_column(grid, k):

@@ -44,6 +44,12 @@ def rung_end(step):
     return step[1] + 1 if step[0] == "down" else step[1]
 
 
+def turned_step(step):
+    if step[0] == "weigh":
+        return step
+    return ("up" if step[0] == "down" else "down", step[1], step[2])
+
+
 # The sums on a track, one for each row, are kept as whole tops over one bottom that shares no divisor with them all:
 # so one step looks for few divisors, and the numbers stay as short as they can be.
 def table_of(ladder):
