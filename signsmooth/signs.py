@@ -1,9 +1,8 @@
 """Changes of sign in rows, rows behind tables, and rows that tell against a table."""
 
 from signsmooth.apart import first_below
-from signsmooth.determinants import product, scale_of, undone, whole_row
+from signsmooth.determinants import product, scale_of, whole_determinant, whole_rows
 from signsmooth.errors import NoRow
-from signsmooth.fracs import NOUGHT, ONE, shared_divisor
 from signsmooth.tables import chosen, column_of, is_row, look_table
 
 
@@ -64,23 +63,34 @@ def tells_against(table, row):
     return first_sign(after) not in (0, first_sign(row))
 
 
-# The first part below 0 has as few rows as there are, so all lesser determinants are from 0 on. By these and the one
-# below 0 the row that comes out behind the part as 1, -1, 1 and so on has as many changes itself, and begins below 0.
-# Behind the whole table there are more changes, or as many and a first sign above 0.
 def against(table):
     below = first_below(table)
     if below is None:
         return None
-    part = chosen(table, below[0], below[1])
-    numbers = behind(undone(part), [ONE if k % 2 == 0 else (-1, 1) for k in range(len(part))])
-    row = [NOUGHT] * len(table[0])
-    for place, top in zip(below[1], shortened(numbers)):
-        row[place] = (top, 1)
-    return row
+    tops = tops_against(table, below[0], below[1])
+    most_bits = max([abs(top).bit_length() for top in tops])
+    # Only signs count, so the first bits alone mostly tell as much: they are tried, and are told where they do.
+    bits = 4
+    while bits < most_bits:
+        row = [(top >> (most_bits - bits), 1) for top in tops]
+        if tells_against(table, row):
+            return row
+        bits = 2 * bits
+    return [(top, 1) for top in tops]
 
 
-# A row multiplied by a number above 0 has the same signs, also behind a table: so it is told by short whole numbers.
-def shortened(numbers):
-    tops = whole_row(numbers, scale_of(numbers))
-    divisor = shared_divisor(0, tops)
-    return [top // divisor for top in tops]
+# The first part below 0 has as few rows as there are, so all lesser determinants are from 0 on. By these and the one
+# below 0 a row that comes out behind the part with the signs 1, -1, 1 and so on has as many changes itself, and begins
+# below 0. Behind the whole table there are more changes, or as many and a first sign above 0.
+# The row is told by Cramer's rule, times the determinant with its sign changed: so its numbers are whole.
+def tops_against(table, rows, columns):
+    part = chosen(table, rows, columns)
+    whole_part = whole_rows(part, [scale_of(row) for row in part])
+    tops = [0] * len(table[0])
+    for k, place in enumerate(columns):
+        tops[place] = -whole_determinant(with_signs_at(whole_part, k))
+    return tops
+
+
+def with_signs_at(rows, k):
+    return [row[:k] + [1 if i % 2 == 0 else -1] + row[k + 1:] for i, row in enumerate(rows)]

@@ -4,7 +4,8 @@ from fractions import Fraction
 from itertools import product
 from random import Random
 
-from signsmooth.determinants import is_good, is_strict
+from signsmooth.apart import first_below
+from signsmooth.determinants import is_good, is_strict, undone
 from signsmooth.errors import NoFit, NoRow, NoTable
 from signsmooth.ladders import table_of
 from signsmooth.signs import against, behind, first_sign, least_changes, most_changes, tells_against
@@ -227,6 +228,22 @@ class TestAgainst(unittest.TestCase):
             table = powers([10 ** 30 + k * k for k in range(7)], 7)
             table[6][6] = (1, 1)
             self.not_good(table)
+
+    def test_great_fractions_with_all_rows_alone_below(self):
+        chance = Random(79)
+        bottom = 10 ** 198
+        for many in (2, 4, 7):
+            table = [[reckon.pair(Fraction(bottom // (i + j + 1) + chance.randrange(10 ** 100), bottom + chance.randrange(99)))
+                      for j in range(many)] for i in range(many)]
+            # So much less at the last place that the determinant of all comes just below 0.
+            share = 1 / reckon.number(undone(table)[-1][-1])
+            last = reckon.number(table[-1][-1]) - share * Fraction(1001, 1000)
+            table[-1][-1] = reckon.pair(Fraction(int(last * bottom), bottom))
+            self.assertEqual(first_below(table), (list(range(many)), list(range(many))))
+            with Prompt(self):
+                row = against(table)
+            self.assertTrue(self.tells(table, row))
+            self.assertLess(max(abs(entry[0]) for entry in row), 10 ** 4000)
 
     def test_good_tables(self):
         for rows, columns in sizes():
